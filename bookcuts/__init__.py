@@ -1,0 +1,1 @@
+"""Bookcuts: texts cut into words of a book."""
