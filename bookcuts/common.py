@@ -1,4 +1,4 @@
-"""What several modules need: the kinds of values, and where stretches of a text end."""
+"""What several modules need: the kinds of values, where stretches of a text end, and all that is reached."""
 
 from bookcuts.errors import NoText
 
@@ -54,3 +54,17 @@ def stretch_ends(pieces, text):
 def word_ends(book, text):
     """For each place from 0 to the text's length the ends of the book's words there, rising."""
     return stretch_ends(dict(book), text)
+
+
+def all_reached(first, behind):
+    """The first thing and all that is ever behind it, rising; behind tells of a list of things what is behind them."""
+    reached = {first: True}
+    latest = [first]
+    while latest:
+        things = behind(latest)
+        latest = []
+        for thing in things:
+            if thing not in reached:
+                reached[thing] = True
+                latest.append(thing)
+    return sorted(reached)

@@ -1,6 +1,6 @@
 """Whether every text of some letters has a cut: by a shortest text without one, or by a paper that each has one."""
 
-from bookcuts.common import is_rising, is_text
+from bookcuts.common import all_reached, is_rising, is_text
 from bookcuts.errors import NoText
 
 MOST_LETTERS = 4
@@ -50,17 +50,8 @@ def full_paper(book, letters):
     """The least paper that the book and the letters are full, or None where they are not."""
     if least_uncut(book, letters) is not None:
         return None
-    start = ("",)
-    kept = {start: True}
-    latest = [start]
-    while latest:
-        rows = rows_behind(book, latest, letters)
-        latest = []
-        for row in rows:
-            if row not in kept:
-                kept[row] = True
-                latest.append(row)
-    return [list(row) for row in sorted(kept)]
+    rows = all_reached(("",), lambda latest: rows_behind(book, latest, letters))
+    return [list(row) for row in rows]
 
 
 def is_row(thing, starts):

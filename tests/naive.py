@@ -1,6 +1,7 @@
 """Slow answers straight from the document's words, and inputs that several tests share."""
 
 import itertools
+import sys
 
 from bookcuts.errors import NoText
 
@@ -239,3 +240,78 @@ def lists_in(thing):
     if not isinstance(thing, (list, tuple)):
         return []
     return [thing] * isinstance(thing, list) + [inner for part in thing for inner in lists_in(part)]
+
+
+def naive_led(book, text):
+    """The places to which cuts of the text's beginnings lead: those behind each that is found, until none is new."""
+    led = {0}
+    latest = {0}
+    while latest:
+        ends = {place + len(word) for place in latest for word, weight in book if text.startswith(word, place)}
+        latest = ends - led
+        led |= ends
+    return sorted(led)
+
+
+def naive_change(before, after):
+    """The tuple (gone, come) of two lists of places."""
+    return [place for place in before if place not in after], [place for place in after if place not in before]
+
+
+def naive_parting(one, other, most, letters="ab"):
+    """The first of the texts of at most so many letters that has a cut by one book alone."""
+    for text in small_texts(most, letters):
+        if (len(text) in naive_led(one, text)) != (len(text) in naive_led(other, text)):
+            return text
+    return None
+
+
+def naive_letters(one, other):
+    return sorted(set("".join(word for word, weight in one + other)))
+
+
+def naive_pairs_behind(one, other, pair):
+    row, row_of_other = pair
+    return [
+        (naive_row_behind(one, row, letter), naive_row_behind(other, row_of_other, letter))
+        for letter in naive_letters(one, other)
+    ]
+
+
+def naive_same_paper(one, other):
+    """The least paper, or None: the pairs of ever longer texts, until none is new."""
+    paper = [([""], [""])]
+    level = paper
+    while level:
+        level = [behind for pair in level for behind in naive_pairs_behind(one, other, pair)]
+        level = [pair for at, pair in enumerate(level) if pair not in paper and pair not in level[:at]]
+        paper = paper + level
+    return sorted(paper) if all(("" in row) == ("" in behind) for row, behind in paper) else None
+
+
+def naive_is_row(book, row):
+    return row == sorted(set(row)) and all(naive_is_start(book, text) for text in row)
+
+
+def naive_same_shows(one, other, paper):
+    for low, high in zip(paper, paper[1:]):
+        if not low < high:
+            return False
+    for pair in paper:
+        if not naive_is_row(one, pair[0]) or not naive_is_row(other, pair[1]):
+            return False
+        if ("" in pair[0]) != ("" in pair[1]):
+            return False
+        if not all(behind in paper for behind in naive_pairs_behind(one, other, pair)):
+            return False
+    return ([""], [""]) in paper
+
+
+def without_depth(ask):
+    """Ask where Python allows for hardly more calls in one another than the tests need themselves."""
+    limit = sys.getrecursionlimit()
+    try:
+        sys.setrecursionlimit(150)
+        ask()
+    finally:
+        sys.setrecursionlimit(limit)
